@@ -34,6 +34,19 @@ def drawn_from(path):
     return names
 
 
+def methods_and_values():
+    """The names of all methods of all classes, and of all values that objects are given."""
+    methods = set()
+    values = set()
+    for path in files():
+        for node in ast.walk(ast.parse(path.read_text())):
+            if isinstance(node, ast.ClassDef):
+                methods |= {part.name for part in node.body if isinstance(part, ast.FunctionDef)}
+            elif isinstance(node, ast.Attribute) and isinstance(node.ctx, ast.Store):
+                values.add(node.attr)
+    return methods, values
+
+
 class Layout(unittest.TestCase):
     def test_init_binds_nothing(self):
         self.assertEqual(ast.parse((PACKAGE / "__init__.py").read_text()).body, [])
@@ -48,6 +61,10 @@ class Layout(unittest.TestCase):
                 with self.subTest(path.name, name=name):
                     self.assertIn(name, STAGES)
                     self.assertLessEqual(STAGES[name], STAGES[path.stem])
+
+    def test_no_name_is_a_method_here_and_a_value_there(self):
+        methods, values = methods_and_values()
+        self.assertEqual(methods & values, set())
 
     def test_sizes(self):
         for path in files():
